@@ -348,6 +348,24 @@ func TestCopy(t *testing.T) {
 	}
 }
 
+// P18.2: a copy over greater ones counts there, too.
+func TestCopyOverGreater(t *testing.T) {
+	w, g := make1(t, 1, 1, 1, 1), make1(t, 9, 9, 9, 1)
+	w.b.Root(20)
+	c := w.b.Copy(g.m, g.d)
+	for range 5 {
+		c.Node(0)
+		c.Page(0)
+		c.Domain(0)
+	}
+	if c.Used(0) != 15 || len(c.Owned(0)) != 15 || w.b.Used(0) != 0 || c.Owner(g.m.PageKey(4)) != 0 {
+		t.Error(c.Used(0), len(c.Owned(0)))
+	}
+	if n, err := c.End(0); n != 15 || err != nil || g.m.Nodes.Used() != 0 {
+		t.Error(n, err)
+	}
+}
+
 // P0.9: counts are those of what is there; room is refused just at a limit, or where no object is left.
 func TestAccounts(t *testing.T) {
 	for seed := range int64(10) {
