@@ -43,7 +43,7 @@ func TestNew(t *testing.T) {
 	if d.World() != nil {
 		t.Error("a world")
 	}
-	for _, line := range []string{"step 0", "type 1", "fill 0", "end 1", "domain 0", "keys 0", "bank 0"} {
+	for _, line := range []string{"step 0", "type", "type 1", "fill 0", "end 1", "domain 0", "keys 0", "bank 0"} {
 		fails(t, d, line, api.ErrNone)
 	}
 	says(t, d, "out")
@@ -62,7 +62,7 @@ func TestErrWord(t *testing.T) {
 	for _, d := range []*desk.Desk{desk.New(), after(t, "boot 10")} {
 		for _, line := range []string{
 			"foo", "Boot 5", "boot\t5", "boot:", "code;halt",
-			"program", "program 5", "code", "boot", "boot 5 6", "boot x y", "step", "type", "fill", "fill 1 2", "end", "end 1 2", "domain", "domain 0 1", "keys", "keys 0 1", "out 1", "out x", "bank", "bank 0 0", "bank x y",
+			"program", "program 5", "boot", "boot 5 6", "boot x y", "step", "fill", "fill 1 2", "end", "end 1 2", "domain", "domain 0 1", "keys", "keys 0 1", "out 1", "out x", "bank", "bank 0 0", "bank x y",
 		} {
 			fails(t, d, line, api.ErrWord)
 		}
@@ -107,6 +107,30 @@ func TestPrograms(t *testing.T) {
 		t.Error("another world")
 	}
 	fails(t, after(t, "boot 1"), "code halt", api.ErrNone)
+}
+
+// P28.1: where `..` stands there may be none; of step alone one or more are asked for.
+func TestNoneBehind(t *testing.T) {
+	d := desk.New()
+	fails(t, d, "code", api.ErrNone)
+	says(t, d, "program 5 1", "0")
+	for _, line := range []string{"code", "  code  ", "code ;"} {
+		says(t, d, line)
+	}
+	fails(t, d, "type", api.ErrNone)
+	says(t, d, "boot 10")
+	if w := d.World(); w.Pages.Words(0)[0] != 0 {
+		t.Error("words of no code")
+	}
+	fails(t, d, "code", api.ErrState)
+	says(t, d, "type 4")
+	for _, line := range []string{"type", "  type  "} {
+		says(t, d, line)
+	}
+	if w := d.World(); !slices.Equal(w.In, []uint32{4}) {
+		t.Error(w.In)
+	}
+	fails(t, d, "step", api.ErrWord)
 }
 
 // P28.1: the errors of asm are around the part's place, and nothing is appended.
