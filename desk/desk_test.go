@@ -43,10 +43,9 @@ func TestNew(t *testing.T) {
 	if d.World() != nil {
 		t.Error("a world")
 	}
-	for _, line := range []string{"step 0", "type", "type 1", "fill 0", "end 1", "domain 0", "keys 0", "bank 0"} {
+	for _, line := range []string{"step 0", "type", "type 1", "fill 0", "end 1", "domain 0", "keys 0", "out", "bank 0"} {
 		fails(t, d, line, api.ErrNone)
 	}
-	says(t, d, "out")
 	for _, line := range []string{"", "    ", "#", "# boot 5", "  #boot 5", "#\xff"} {
 		says(t, d, line)
 	}

@@ -89,6 +89,13 @@ func keyLines(w *world.World, numbers []int) ([]string, error) {
 	return lines, nil
 }
 
+func outLine(w *world.World, _ []int) ([]string, error) {
+	if len(w.Out) == 0 {
+		return nil, nil
+	}
+	return []string{row(w.Out...)}, nil
+}
+
 func bankLine(w *world.World, numbers []int) ([]string, error) {
 	id := numbers[0]
 	if !w.Banks.There(id) {
